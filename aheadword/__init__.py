@@ -1,0 +1,1 @@
+"""Aheadword: the best words that begin as asked, best first."""
