@@ -37,9 +37,12 @@ class Layers:
         self.veiled.pop(word)
 
     def told(self, beginning, many):
+        return self.all_told(beginning)[:many]
+
+    def all_told(self, beginning):
         own = [pair for pair in self.own.begun(beginning) if pair[0] not in self.veiled]
         house = [pair for pair in self.house.begun(beginning) if self.is_seen_of_house(pair[0])]
-        return (with_own(own, True) + with_own(house, False))[:many]
+        return with_own(own, True) + with_own(house, False)
 
     def is_seen_of_house(self, word):
         return word not in self.veiled and not self.own.has(word)

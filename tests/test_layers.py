@@ -1,7 +1,7 @@
 import unittest
 
-from plain import (BEGINNINGS, NO_WORDS, WORDS, PlainWood, deed_on, dice_of, halved, is_rated, is_rows, is_whole,
-                   refused, three_hundred)
+from plain import (BEGINNINGS, NO_WORDS, WORDS, PlainWood, check_layers, deed_on, deed_on_layers, dice_of, halved,
+                   is_rated, is_rows, is_whole, refused, three_hundred)
 
 from aheadword.errors import Absent, NoWord, Twice
 from aheadword.layers import Layers
@@ -9,24 +9,6 @@ from aheadword.parts import PartWood
 from aheadword.woods import Wood
 
 NO_TEXTS_HERE = ["fir", "oa", "oak ", " oak", "OAK", "", " ", "~!{}\\", "x" * 300]
-
-
-def told_plainly(own, house, hidden, beginning):
-    rows = [(word, worth, True) for word, worth in own.all_told(beginning) if word not in hidden]
-    for word, worth in house.all_told(beginning):
-        if word not in own.worths and word not in hidden:
-            rows.append((word, worth, False))
-    return rows
-
-
-def check_layers(test, layers, own, house, hidden, beginnings=BEGINNINGS, manys=(1, 2, 1000)):
-    is_rated(test, layers.own_words(), own.words())
-    test.assertIs(type(layers.hidden()), list)
-    test.assertEqual(layers.hidden(), sorted(hidden))
-    for beginning in beginnings:
-        wanted = told_plainly(own, house, hidden, beginning)
-        for many in tuple(manys) + (len(wanted) or 1,):
-            is_rows(test, layers.told(beginning, many), [str, int, bool], wanted[:many])
 
 
 class LayersOf(unittest.TestCase):
@@ -294,29 +276,6 @@ class OneHouse(LayersOf):
         self.assertEqual(layers.told("oak", 5), [("oak", 2, False)])
         layers.use("old oak")
         self.assertEqual(house.found("oak", 1), [("old oak", 4, 1)])
-
-
-def deed_on_layers(dice, layers, own, house, hidden, vocabulary):
-    """One deed on the layers themselves; its answer."""
-    word, kind = dice.choice(vocabulary), dice.choice(["put", "strike", "hide", "show", "use", "use", "fade"])
-    if kind == "put" and word not in own.worths:
-        own.worths[word] = dice.choice([0, 1, 3, 10 ** 9])
-        return layers.put(word, own.worths[word])
-    if kind == "strike" and word in own.worths:
-        own.worths.pop(word)
-        return layers.strike(word)
-    if kind == "hide" and word not in hidden:
-        hidden.append(word)
-        return layers.hide(word)
-    if kind == "show" and hidden:
-        return layers.show(hidden.pop(dice.randrange(len(hidden))))
-    if kind == "use" and word not in hidden and (word in own.worths or word in house.worths):
-        (own if word in own.worths else house).worths[word] += 5
-        return layers.use(word, 5)
-    if kind == "fade":
-        own.fade(1)
-        return layers.fade()
-    return None
 
 
 class Rows(unittest.TestCase):

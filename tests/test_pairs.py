@@ -1,6 +1,6 @@
 import unittest
 
-from plain import (BEGINNINGS, WORDS, PlainWood, deed_on, dice_of, halved, in_order, is_rated, is_rows, is_whole,
+from plain import (BEGINNINGS, WORDS, PlainPairs, PlainWood, deed_on, dice_of, is_rated, is_rows, is_whole,
                    ranked_order, three_hundred)
 
 from aheadword.pairs import Pairs, ranked
@@ -8,25 +8,6 @@ from aheadword.parts import PartWood
 from aheadword.woods import Wood
 
 FEW = ["oak", "oaks", "oak tree", "elm", "a", "abcdefghijkl abcdefghijk"]
-
-
-class PlainPairs:
-    """Each chosen pair with its worth of now, halved at once."""
-
-    def __init__(self):
-        self.worths = {}
-
-    def choose(self, before, word):
-        self.worths[before, word] = self.worths.get((before, word), 0) + 1
-
-    def fade(self, times):
-        self.worths = {pair: halved(worth, times) for pair, worth in self.worths.items()}
-
-    def let_go(self, word):
-        self.worths = {pair: worth for pair, worth in self.worths.items() if pair[0] != word and pair[1] != word}
-
-    def behind(self, before):
-        return in_order([(pair[1], worth) for pair, worth in self.worths.items() if pair[0] == before and worth > 0])
 
 
 def check_pairs(test, pairs, plain, words=FEW):

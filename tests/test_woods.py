@@ -1,21 +1,13 @@
 import unittest
 
-from plain import (BEGINNINGS, NO_WORDS, WORDS, PlainWood, check_cut_off, check_wood, deed_on, dice_of, halved, is_rated,
-                   is_whole, refused, three_hundred)
+from plain import (BEGINNINGS, NO_WORDS, WORDS, PlainWood, check_cut_off, check_wood, deed_on, dice_of, halved,
+                   is_rated, is_whole, refused, three_hundred, wood_of)
 
 from aheadword.errors import Absent, NoWord, Twice
 from aheadword.parts import PartWood
 from aheadword.woods import Wood
 
 ABSENT_TEXTS = ["elm", "oa", "oaks", "oak ", " oak", "OAK", "", " ", "~!{}\\", "7 oak", "x" * 300]
-
-
-def wood_of(rated):
-    wood, plain = Wood(), PlainWood()
-    for word, count in rated:
-        wood.put(word, count)
-        plain.worths[word] = count
-    return wood, plain
 
 
 class Deeds(unittest.TestCase):

@@ -97,7 +97,8 @@ class Marks(unittest.TestCase):
 
     def test_known_halvings(self):
         for count, steps, worth in ((7, 1, 3), (7, 2, 1), (7, 3, 0), (1, 1, 0), (100, 3, 12), (1023, 9, 1), (0, 5, 0),
-                                    (10 ** 15 - 1, 49, 1), (10 ** 15 - 1, 50, 0), (2 ** 49, 49, 1), (2 ** 49 - 1, 49, 0)):
+                                    (10 ** 15 - 1, 49, 1), (10 ** 15 - 1, 50, 0), (2 ** 49, 49, 1),
+                                    (2 ** 49 - 1, 49, 0)):
             with self.subTest(count=count, steps=steps):
                 self.whole(worth_at((count, 0), steps), worth)
                 self.whole(worth_at((count, 41), 41 + steps), worth)
